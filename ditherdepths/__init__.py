@@ -1,0 +1,1 @@
+"""Ditherdepths: what ordered dither screens of any depth put on paper."""

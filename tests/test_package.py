@@ -1,0 +1,108 @@
+"""The interface stands where the document lists it, and the files keep to the rules of size."""
+
+import ast
+import unittest
+from pathlib import Path
+
+PACKAGE = Path(__file__).resolve().parent.parent / "ditherdepths"
+FUNCTIONS = {
+    "screens.py": {
+        "bayer": ["number"], "mirrored": ["screen"], "flipped": ["screen"], "transposed": ["screen"],
+        "first_levels": ["screen", "number"], "stacked": ["screen", "second"],
+    },
+    "dots.py": {
+        "is_dot": ["screen", "shade", "x", "y"], "dot_count": ["screen", "shade", "window"],
+        "nth_dot": ["screen", "shade", "window", "number"],
+    },
+}
+METHODS = {
+    "screens.py": {
+        "Screen": {
+            "__init__": ["self", "levels"], "levels": ["self"], "depth": ["self"], "period": ["self"],
+            "shades": ["self"], "threshold": ["self", "x", "y"], "place": ["self", "number"], "__eq__": None,
+        },
+    },
+}
+PROPERTIES = {"screens.py": {"Screen": ["levels", "depth", "period", "shades"]}}
+
+
+def tree_of(path):
+    return ast.parse(path.read_text(encoding="utf-8"))
+
+
+def functions_in(node):
+    """The functions of a file or a class by their names."""
+    return {child.name: child for child in node.body if isinstance(child, ast.FunctionDef)}
+
+
+def classes_in(node):
+    return {child.name: child for child in node.body if isinstance(child, ast.ClassDef)}
+
+
+def parameters_of(function):
+    return [argument.arg for argument in function.args.args]
+
+
+def files():
+    return sorted(PACKAGE.rglob("*.py"))
+
+
+class InterfaceTest(unittest.TestCase):
+    def test_functions(self):
+        for name, wanted in FUNCTIONS.items():
+            found = functions_in(tree_of(PACKAGE / name))
+            for function, parameters in wanted.items():
+                self.assertEqual(parameters_of(found[function]), parameters, function)
+
+    def test_methods(self):
+        for name, wanted in METHODS.items():
+            found = classes_in(tree_of(PACKAGE / name))
+            for own, methods in wanted.items():
+                defined = functions_in(found[own])
+                for method, parameters in methods.items():
+                    self.assertIn(method, defined)
+                    if parameters is not None:
+                        self.assertEqual(parameters_of(defined[method]), parameters, method)
+
+    def test_properties(self):
+        for name, wanted in PROPERTIES.items():
+            found = classes_in(tree_of(PACKAGE / name))
+            for own, properties in wanted.items():
+                defined = functions_in(found[own])
+                for method in properties:
+                    decorators = [decorator.id for decorator in defined[method].decorator_list]
+                    self.assertEqual(decorators, ["property"], method)
+
+
+class FilesTest(unittest.TestCase):
+    def test_only_plain_files(self):
+        for path in PACKAGE.rglob("*"):
+            if "__pycache__" not in path.parts:
+                self.assertEqual(path.suffix, ".py", path)
+        self.assertTrue((PACKAGE / "__init__.py").is_file())
+
+    def test_sizes_and_characters(self):
+        for path in files():
+            text = path.read_text(encoding="utf-8")
+            lines = text.splitlines()
+            self.assertLessEqual(len(lines), 399, path)
+            for line in lines:
+                self.assertLessEqual(len(line), 120, path)
+            self.assertTrue(all(letter == "\n" or " " <= letter <= "~" for letter in text), path)
+
+    def test_functions_are_short(self):
+        for path in files():
+            for node in ast.walk(tree_of(path)):
+                if isinstance(node, ast.FunctionDef):
+                    self.assertLessEqual(node.end_lineno - node.lineno + 1, 40, (path, node.name))
+
+    def test_imports_are_of_the_package(self):
+        for path in files():
+            for node in ast.walk(tree_of(path)):
+                self.assertNotIsInstance(node, ast.Import, path)
+                if isinstance(node, ast.ImportFrom):
+                    self.assertTrue(node.module.startswith("ditherdepths."), path)
+
+
+if __name__ == "__main__":
+    unittest.main()
