@@ -29,10 +29,16 @@ def is_window(value):
     return corner and is_between(width, 1, FARTHEST) and is_between(height, 1, FARTHEST)
 
 
+def check_coordinate(value):
+    """Raises InvalidPlace unless this is an x or a y within the bounds."""
+    if not is_coordinate(value):
+        raise InvalidPlace("x and y are integers from -10 ** 30 to 10 ** 30")
+
+
 def check_place(x, y):
     """Raises InvalidPlace unless both are within the bounds."""
-    if not is_coordinate(x) or not is_coordinate(y):
-        raise InvalidPlace("x and y are integers from -10 ** 30 to 10 ** 30")
+    check_coordinate(x)
+    check_coordinate(y)
 
 
 def check_window(window):

@@ -1,6 +1,6 @@
 """What the tests share: slow answers by the words of the document, and wrong values."""
 
-from ditherdepths.screens import Screen
+from ditherdepths.screens import Screen, bayer
 
 FAR = 10 ** 30
 LONG = 10 ** 999
@@ -18,6 +18,17 @@ def nested(depth):
 WRONG = [
     None, True, False, "", "0", "1", b"1", (), (1,), [], [1], {}, {1: 1}, set(), {1}, frozenset([1]),
     object(), int, len, range(4), Screen, nested(40), iter([1]), ValueError("1"),
+]
+ONE = (0, 0, 1, 1)
+FAR_PLACES = [0, 1, -1, 2 ** 50, 2 ** 50 - 1, -2 ** 50, FAR - 1, FAR, -FAR, 1 - FAR]
+WRONG_SCREENS = WRONG + [0, [(0, 2, 3, 1)], ((0, 2, 3, 1),), [bayer(1)]]
+WRONG_COORDINATES = WRONG + [FAR + 1, -FAR - 1, LONG, -LONG]
+WRONG_WINDOWS = WRONG + [
+    0, LONG, [0, 0, 1, 1], (0, 0, 1), (0, 0, 1, 1, 1), (0, 0, 0, 1), (0, 0, 1, 0), (0, 0, -1, 1), (0, 0, 1, -1),
+    (FAR + 1, 0, 1, 1), (-FAR - 1, 0, 1, 1), (0, FAR + 1, 1, 1), (0, -FAR - 1, 1, 1), (0, 0, FAR + 1, 1),
+    (0, 0, 1, FAR + 1), (True, 0, 1, 1), (0, False, 1, 1), (0, 0, True, 1), (0, 0, 1, True), (None, 0, 1, 1),
+    (0, "0", 1, 1), (0, 0, (1,), 1), (0, 0, 1, [1]), ((0, 0), (1, 1)), "0011", {0: 0, 1: 0, 2: 1, 3: 1},
+    (0, 0, 1, LONG), (-LONG, 0, 1, 1), ONE + ONE,
 ]
 
 
@@ -48,9 +59,71 @@ def slow_dots(levels, shade, window):
     ]
 
 
+def slow_table(levels):
+    """The thresholds of the first period, row by row."""
+    period = range(2 ** len(levels))
+    return [[slow_threshold(levels, x, y) for x in period] for y in period]
+
+
+def like_it(window, x, y, period):
+    """How many places of a window are periods away from one of its first period."""
+    left, top, width, height = window
+    return -((left + width - x) // -period) * -((top + height - y) // -period)
+
+
 def some_levels(chance, number):
     """So many levels, each in a sequence by chance."""
     return [tuple(chance.sample(range(4), 4)) for _ in range(number)]
+
+
+def wrong_shades(screen):
+    return WRONG + [-1, screen.shades + 1, LONG, -LONG, "9", (0,)]
+
+
+def some_shades(chance, screen, number):
+    """Shades at the edges and so many more."""
+    edges = [0, 1, 2, screen.shades - 1, screen.shades]
+    return edges + [chance.randrange(screen.shades + 1) for _ in range(number)]
+
+
+def small_windows(chance, number):
+    """So many windows of few places near 0."""
+    windows = []
+    for _ in range(number):
+        corner = chance.randrange(-20, 20), chance.randrange(-20, 20)
+        windows.append((*corner, chance.randrange(1, 9), chance.randrange(1, 9)))
+    return windows
+
+
+def far_windows(chance, number):
+    """So many windows of few places, near the bounds and elsewhere."""
+    windows = []
+    for _ in range(number):
+        corner = chance.choice(FAR_PLACES), chance.choice(FAR_PLACES)
+        windows.append((*corner, *chance.sample([1, 2, 3, 4, 5], 2)))
+    return windows
+
+
+def parted(chance, window):
+    """The window cut in two, side by side or one above the other; None if a part would be no window."""
+    left, top, width, height = window
+    if width > 1 and left <= 0:
+        part = chance.randrange(1, width)
+        return (left, top, part, height), (left + part, top, width - part, height)
+    if height > 1 and top <= 0:
+        part = chance.randrange(1, height)
+        return (left, top, width, part), (left, top + part, width, height - part)
+    return None
+
+
+def great_windows(chance):
+    """Windows of all sizes at the bounds and elsewhere."""
+    sizes = [1, 2, 3, 2 ** 50 - 1, 2 ** 50, 2 ** 50 + 1, 2 ** 60, FAR - 1, FAR]
+    windows = [(-FAR, -FAR, FAR, FAR), (FAR, FAR, FAR, FAR), (FAR, -FAR, FAR, 1), (-FAR, FAR, 1, FAR)]
+    for _ in range(30):
+        corner = chance.choice(FAR_PLACES), chance.randrange(-FAR, FAR + 1)
+        windows.append((*chance.sample(corner, 2), chance.choice(sizes), chance.choice(sizes)))
+    return windows
 
 
 def check_errors(test, function, good, wrong):

@@ -3,43 +3,14 @@
 import random
 import unittest
 
-from plain import FAR, LONG, WRONG, check_errors, slow_dots, slow_threshold, some_levels
+from plain import (
+    FAR, FAR_PLACES, LONG, ONE, WRONG, WRONG_COORDINATES, WRONG_SCREENS, WRONG_WINDOWS, check_errors, great_windows,
+    like_it, slow_dots, slow_threshold, some_levels, some_shades, wrong_shades,
+)
 
 from ditherdepths.dots import dot_count, is_dot, nth_dot
 from ditherdepths.errors import InvalidNumber, InvalidPlace, InvalidScreen, InvalidShade, InvalidWindow
 from ditherdepths.screens import Screen, bayer, first_levels, flipped, mirrored, transposed
-
-ONE = (0, 0, 1, 1)
-FAR_PLACES = [0, 1, -1, 2 ** 50, 2 ** 50 - 1, -2 ** 50, FAR - 1, FAR, -FAR, 1 - FAR]
-WRONG_SCREENS = WRONG + [0, [(0, 2, 3, 1)], ((0, 2, 3, 1),), [bayer(1)]]
-WRONG_COORDINATES = WRONG + [FAR + 1, -FAR - 1, LONG, -LONG]
-WRONG_WINDOWS = WRONG + [
-    0, LONG, [0, 0, 1, 1], (0, 0, 1), (0, 0, 1, 1, 1), (0, 0, 0, 1), (0, 0, 1, 0), (0, 0, -1, 1), (0, 0, 1, -1),
-    (FAR + 1, 0, 1, 1), (-FAR - 1, 0, 1, 1), (0, FAR + 1, 1, 1), (0, -FAR - 1, 1, 1), (0, 0, FAR + 1, 1),
-    (0, 0, 1, FAR + 1), (True, 0, 1, 1), (0, False, 1, 1), (0, 0, True, 1), (0, 0, 1, True), (None, 0, 1, 1),
-    (0, "0", 1, 1), (0, 0, (1,), 1), (0, 0, 1, [1]), ((0, 0), (1, 1)), "0011", {0: 0, 1: 0, 2: 1, 3: 1},
-    (0, 0, 1, LONG), (-LONG, 0, 1, 1), ONE + ONE,
-]
-
-
-def wrong_shades(screen):
-    return WRONG + [-1, screen.shades + 1, LONG, -LONG, "9", (0,)]
-
-
-def some_shades(chance, screen, number):
-    """Shades at the edges and so many more."""
-    edges = [0, 1, 2, screen.shades - 1, screen.shades]
-    return edges + [chance.randrange(screen.shades + 1) for _ in range(number)]
-
-
-def great_windows(chance):
-    """Windows of all sizes at the bounds and elsewhere."""
-    sizes = [1, 2, 3, 2 ** 50 - 1, 2 ** 50, 2 ** 50 + 1, 2 ** 60, FAR - 1, FAR]
-    windows = [(-FAR, -FAR, FAR, FAR), (FAR, FAR, FAR, FAR), (FAR, -FAR, FAR, 1), (-FAR, FAR, 1, FAR)]
-    for _ in range(30):
-        corner = chance.choice(FAR_PLACES), chance.randrange(-FAR, FAR + 1)
-        windows.append((*chance.sample(corner, 2), chance.choice(sizes), chance.choice(sizes)))
-    return windows
 
 
 class IsDotTest(unittest.TestCase):
@@ -157,12 +128,9 @@ class DotCountTest(unittest.TestCase):
             screen = Screen(levels)
             period = screen.period
             for window in great_windows(chance):
-                left, top, width, height = window
                 shade = chance.randrange(screen.shades + 1)
-                dots = slow_dots(levels, shade, (left, top, period, period))
-                expected = 0
-                for x, y in dots:
-                    expected += -((left + width - x) // -period) * -((top + height - y) // -period)
+                dots = slow_dots(levels, shade, (*window[:2], period, period))
+                expected = sum(like_it(window, x, y, period) for x, y in dots)
                 self.assertEqual(dot_count(screen, shade, window), expected, (levels, shade, window))
 
     def test_mirrored_windows(self):

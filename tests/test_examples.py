@@ -32,6 +32,38 @@ DOTS = """
 [(0, 0), (2, 0), (1, 1), (3, 3), None]
 """
 
+RANKS = """
+>>> from ditherdepths.ranks import least_shade, nth_threshold, shades_with, threshold_range, times_of
+>>> [[nth_threshold(four, (1, 1, 2, 2), number) for number in range(4)], threshold_range(four, (0, 1, 4, 1)), times_of(four, (0, 0, 5, 5), 0)]
+[[1, 4, 11, 14], (4, 14), 4]
+>>> [least_shade(four, (0, 0, 2, 2), 2), shades_with(four, (0, 0, 2, 2), 2), shades_with(four, (0, 0, 5, 1), 1), shades_with(four, (0, 0, 4, 1), 4)]
+[5, (5, 8), None, (11, 16)]
+"""
+
+SQUARES = """
+>>> from ditherdepths.squares import even_part, first_fuller, fuller_count, is_fuller
+>>> [even_part(four, 9, 1), [is_fuller(four, 9, 1, x, y) for x, y in [(0, 0), (2, 0), (1, 1), (0, 3)]], fuller_count(four, 9, 1, (0, 0, 4, 4)), first_fuller(four, 9, 1, (2, 0, 9, 9))]
+[2, [True, False, False, True], 4, (4, 0)]
+"""
+
+RUNS = """
+>>> from ditherdepths.runs import longest_across, longest_down, longest_in_column, longest_in_row
+>>> [[longest_in_row(four, 9, y, "dot") for y in range(4)], longest_in_row(four, 12, 0, "dot"), longest_in_row(four, 6, 3, "blank"), longest_in_column(four, 9, 1, "dot")]
+[[3, 1, 1, 1], None, 3, 3]
+>>> [longest_across(four, 9, "dot"), longest_down(four, 6, "blank"), longest_across(four, 4, "blank")]
+[3, 3, None]
+"""
+
+PATTERNS = """
+>>> from ditherdepths.patterns import match_count, match_share, matches
+>>> right = [(0, 0, 0, True), (0, 1, 0, False)]
+>>> [matches([(four, 9, 0, 0)], right, 2, 0), match_count([(four, 9, 0, 0)], right, (0, 0, 4, 4)), match_share([(four, 9, 0, 0)], right)]
+[True, 7, (7, 16)]
+>>> both = [(0, 0, 0, True), (1, 0, 0, True)]
+>>> [match_share([(four, 9, 0, 0), (four, 9, x, 0)], both) for x in (0, 1, 2)]
+[(9, 16), (1, 8), (1, 2)]
+"""
+
 
 def run_session(text):
     """What a run of the examples reports, and the names that it leaves."""
@@ -43,10 +75,10 @@ def run_session(text):
 
 
 class ExamplesTest(unittest.TestCase):
-    def test_overview_screens_and_dots(self):
-        result, report, _ = run_session(OVERVIEW + SCREENS + DOTS)
+    def test_the_session(self):
+        result, report, _ = run_session(OVERVIEW + SCREENS + DOTS + RANKS + SQUARES + RUNS + PATTERNS)
         self.assertEqual(result.failed, 0, report)
-        self.assertEqual(result.attempted, 9)
+        self.assertEqual(result.attempted, 22)
 
     def test_the_table_of_point_6(self):
         _, _, names = run_session(OVERVIEW)

@@ -14,6 +14,23 @@ FUNCTIONS = {
         "is_dot": ["screen", "shade", "x", "y"], "dot_count": ["screen", "shade", "window"],
         "nth_dot": ["screen", "shade", "window", "number"],
     },
+    "ranks.py": {
+        "nth_threshold": ["screen", "window", "number"], "threshold_range": ["screen", "window"],
+        "times_of": ["screen", "window", "threshold"], "least_shade": ["screen", "window", "number"],
+        "shades_with": ["screen", "window", "number"],
+    },
+    "squares.py": {
+        "even_part": ["screen", "shade", "side"], "is_fuller": ["screen", "shade", "side", "x", "y"],
+        "fuller_count": ["screen", "shade", "side", "window"], "first_fuller": ["screen", "shade", "side", "window"],
+    },
+    "runs.py": {
+        "longest_in_row": ["screen", "shade", "y", "kind"], "longest_in_column": ["screen", "shade", "x", "kind"],
+        "longest_across": ["screen", "shade", "kind"], "longest_down": ["screen", "shade", "kind"],
+    },
+    "patterns.py": {
+        "matches": ["plates", "conditions", "x", "y"], "match_count": ["plates", "conditions", "window"],
+        "match_share": ["plates", "conditions"],
+    },
 }
 METHODS = {
     "screens.py": {
@@ -96,12 +113,14 @@ class FilesTest(unittest.TestCase):
                 if isinstance(node, ast.FunctionDef):
                     self.assertLessEqual(node.end_lineno - node.lineno + 1, 40, (path, node.name))
 
-    def test_imports_are_of_the_package(self):
+    def test_imports_are_of_the_package_or_plain_functions(self):
+        allowed = [("math", "gcd")]
         for path in files():
             for node in ast.walk(tree_of(path)):
                 self.assertNotIsInstance(node, ast.Import, path)
-                if isinstance(node, ast.ImportFrom):
-                    self.assertTrue(node.module.startswith("ditherdepths."), path)
+                if isinstance(node, ast.ImportFrom) and not node.module.startswith("ditherdepths."):
+                    for name in node.names:
+                        self.assertIn((node.module, name.name), allowed, path)
 
 
 if __name__ == "__main__":
