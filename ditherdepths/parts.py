@@ -76,6 +76,11 @@ def is_met(demand, bit, x, y):
     return None
 
 
+def places_of(window):
+    """How many places a window has."""
+    return window[2] * window[3]
+
+
 def count_places(parts, window):
     """How many places of a window the parts have."""
     left, top, width, height = window

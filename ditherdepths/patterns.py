@@ -3,9 +3,10 @@
 from math import gcd
 
 from ditherdepths.checks import check_place, check_window, is_between, is_coordinate
-from ditherdepths.errors import InvalidConditions, InvalidPlates
-from ditherdepths.parts import count_places, demand_of, parts_of
-from ditherdepths.screens import Screen
+from ditherdepths.errors import InvalidConditions
+from ditherdepths.parts import count_places, parts_of
+from ditherdepths.plates import check_plates, demand_on
+from ditherdepths.screens import threshold_at
 
 MOST_PLATES = 4
 MOST_CONDITIONS = 5
@@ -37,31 +38,12 @@ def match_share(plates, conditions):
 
 def check_pattern(plates, conditions):
     """Raises InvalidPlates, then InvalidConditions unless these are lists of such."""
-    check_plates(plates)
+    check_plates(plates, MOST_PLATES)
     if not isinstance(conditions, list) or not 1 <= len(conditions) <= MOST_CONDITIONS:
         raise InvalidConditions(None)
     for item, condition in enumerate(conditions):
         if not is_condition(condition, len(plates)):
             raise InvalidConditions(item)
-
-
-def check_plates(plates):
-    """Raises InvalidPlates unless this is a list of plates."""
-    if not isinstance(plates, list) or not 1 <= len(plates) <= MOST_PLATES:
-        raise InvalidPlates(None)
-    for item, plate in enumerate(plates):
-        if not is_plate(plate):
-            raise InvalidPlates(item)
-
-
-def is_plate(value):
-    """Whether a value is a plate."""
-    if not isinstance(value, tuple) or len(value) != 4:
-        return False
-    screen, shade, x, y = value
-    if not isinstance(screen, Screen) or not is_between(shade, 0, screen.shades):
-        return False
-    return is_coordinate(x) and is_coordinate(y)
 
 
 def is_condition(value, many):
@@ -78,16 +60,9 @@ def has_condition(plates, condition, x, y):
     """Whether a place has a condition."""
     number, right, down, is_dot = condition
     screen, shade, across, below = plates[number]
-    # The place of the screen may lie beyond the bounds; one like it in the first period does not.
-    period = screen.period
-    threshold = screen.threshold((x + right - across) % period, (y + down - below) % period)
-    return (threshold < shade) == is_dot
+    return (threshold_at(screen, x + right - across, y + down - below) < shade) == is_dot
 
 
 def pattern_parts(plates, conditions):
     """The parts that have the places that have all conditions."""
-    demands = []
-    for number, right, down, is_dot in conditions:
-        screen, shade, across, below = plates[number]
-        demands.append(demand_of(screen, shade, right - across, down - below, is_dot))
-    return parts_of(demands)
+    return parts_of([demand_on(plates[number], x, y, is_dot) for number, x, y, is_dot in conditions])

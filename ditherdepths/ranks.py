@@ -1,7 +1,7 @@
 """Ranks: the thresholds of a window in ascending sequence, and the shades that give so many dots."""
 
 from ditherdepths.checks import check_number, check_window
-from ditherdepths.parts import count_places
+from ditherdepths.parts import count_places, places_of
 from ditherdepths.screens import check_screen, corner_of
 
 
@@ -48,11 +48,6 @@ def shades_with(screen, window, number):
     if greatest < least:
         return None
     return least, greatest
-
-
-def places_of(window):
-    """How many places a window has."""
-    return window[2] * window[3]
 
 
 def ranked(screen, window, number):

@@ -78,6 +78,12 @@ def corner_of(level, digit):
     return corner & 1, corner >> 1
 
 
+def threshold_at(screen, x, y):
+    """The threshold of a place that may lie beyond the bounds."""
+    # The place like it in the first period does not.
+    return screen.threshold(x % screen.period, y % screen.period)
+
+
 def check_screen(screen):
     """Raises InvalidScreen unless this is a screen."""
     if not isinstance(screen, Screen):

@@ -23,6 +23,7 @@ ONE = (0, 0, 1, 1)
 FAR_PLACES = [0, 1, -1, 2 ** 50, 2 ** 50 - 1, -2 ** 50, FAR - 1, FAR, -FAR, 1 - FAR]
 WRONG_SCREENS = WRONG + [0, [(0, 2, 3, 1)], ((0, 2, 3, 1),), [bayer(1)]]
 WRONG_COORDINATES = WRONG + [FAR + 1, -FAR - 1, LONG, -LONG]
+WRONG_TRUTHS = [value for value in WRONG if not isinstance(value, bool)] + [0, 1, LONG, "True", (True,), [True]]
 WRONG_WINDOWS = WRONG + [
     0, LONG, [0, 0, 1, 1], (0, 0, 1), (0, 0, 1, 1, 1), (0, 0, 0, 1), (0, 0, 1, 0), (0, 0, -1, 1), (0, 0, 1, -1),
     (FAR + 1, 0, 1, 1), (-FAR - 1, 0, 1, 1), (0, FAR + 1, 1, 1), (0, -FAR - 1, 1, 1), (0, 0, FAR + 1, 1),
@@ -63,6 +64,56 @@ def slow_table(levels):
     """The thresholds of the first period, row by row."""
     period = range(2 ** len(levels))
     return [[slow_threshold(levels, x, y) for x in period] for y in period]
+
+
+def small_dots(levels, shade):
+    """Whether a place has a dot, as a function, of a screen of few levels."""
+    table = slow_table(levels)
+    period = len(table)
+    return lambda x, y: table[y % period][x % period] < shade
+
+
+def turned_over(screen):
+    """The screen that has each number d of each level as 3 - d."""
+    return Screen([tuple(3 - digit for digit in level) for level in screen.levels])
+
+
+def wrong_plates(plate):
+    """Values that are no plate, some of them nearly this one."""
+    screen, shade, x, y = plate
+    wrong = WRONG + [0, LONG, screen, list(plate), plate[:3], (*plate, 0), [plate], (plate,)]
+    wrong += [(value, shade, x, y) for value in WRONG_SCREENS]
+    wrong += [(screen, value, x, y) for value in wrong_shades(screen)]
+    wrong += [(screen, shade, value, y) for value in WRONG_COORDINATES]
+    return wrong + [(screen, shade, x, value) for value in WRONG_COORDINATES]
+
+
+def no_lists(item, most):
+    """Values that are no list of 1 to so many of such items."""
+    wrong = [value for value in WRONG if not isinstance(value, list) or not value]
+    wrong += [0, LONG, (item,), item, {0: item}, [item] * (most + 1), [None] * (most + 1)]
+    return wrong + [bayer(1), iter([item]), range(1)]
+
+
+def check_lists(test, call, error, item, wrong, most):
+    """A list of 1 to so many items is needed, and the number of the first wrong item is told."""
+    for value in no_lists(item, most):
+        raises_item(test, lambda: call(value), error, None)
+    last = most - 1
+    for value in wrong:
+        raises_item(test, lambda: call([value]), error, 0)
+        raises_item(test, lambda: call([item] * last + [value]), error, last)
+        if last > 1:
+            raises_item(test, lambda: call([item, value, value, item][:most]), error, 1)
+
+
+def raises_item(test, call, error, item):
+    """The call raises just this error with the number of an item."""
+    with test.assertRaises(error) as caught:
+        call()
+    test.assertIs(caught.exception.__class__, error)
+    test.assertIs(type(caught.exception.item), type(item))
+    test.assertEqual(caught.exception.item, item)
 
 
 def like_it(window, x, y, period):
