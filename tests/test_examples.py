@@ -3,6 +3,8 @@
 import doctest
 import unittest
 
+from ditherdepths.errors import OverInk
+
 OVERVIEW = """
 >>> from ditherdepths.screens import Screen, bayer
 >>> four = bayer(2)
@@ -64,6 +66,59 @@ PATTERNS = """
 [(9, 16), (1, 8), (1, 2)]
 """
 
+EDGES = """
+>>> from ditherdepths.edges import edges, islands_less_holes, lone_dots
+>>> [(edges(four, shade), lone_dots(four, shade), islands_less_holes(four, shade)) for shade in (6, 9, 16)]
+[((12, 12), 6, 6), ((14, 14), 4, 5), ((0, 0), 0, 0)]
+"""
+
+INKS = """
+>>> from ditherdepths.inks import covered, ink_counts
+>>> moved = [(four, 6, 0, 0), (four, 6, 1, 0)]
+>>> [ink_counts(moved, (0, 0, 4, 4)), covered(moved, (0, 0, 4, 4)), ink_counts([(four, 9, 0, 0)], (0, 0, 2, 2))]
+[[4, 6, 6, 0], 12, [1, 3]]
+"""
+
+ALIKE = """
+>>> from ditherdepths.alike import first_unlike, moved, same_dots, shift_between, unlike_count
+>>> other = Screen([(0, 2, 3, 1), (1, 0, 2, 3)])
+>>> [same_dots(four, 8, other, 8), same_dots(four, 8, bayer(1), 2), same_dots(four, 9, other, 9), unlike_count(four, 9, other, 9, (0, 0, 4, 4)), first_unlike(four, 9, other, 9, (0, 0, 4, 4))]
+[True, True, False, 2, (1, 0)]
+>>> [moved(four, 2, 4).levels, moved(four, 1, 0), shift_between(four, moved(four, 2, 2)), shift_between(four, other)]
+[[(0, 2, 3, 1), (2, 0, 1, 3)], None, (2, 2), None]
+"""
+
+TOLD = """
+>>> from ditherdepths.told import deciding, first_contradiction, shades_counted, shades_for
+>>> seen = [(0, 0, True), (1, 0, False), (1, 1, True)]
+>>> [shades_for(four, seen), deciding(four, seen), first_contradiction(four, seen), first_contradiction(four, seen + [(2, 0, False)])]
+[(5, 8), (2, 1), None, 3]
+>>> [shades_counted(four, [((0, 0, 2, 2), 2), ((1, 1, 2, 2), 2)]), shades_counted(four, [((0, 0, 4, 4), 17)])]
+[(5, 8), None]
+"""
+
+TEXTS = """
+>>> from ditherdepths.texts import read_screen, show_dots, show_screen
+>>> [show_screen(other), read_screen("0231 0231") == four, show_dots(four, 9, (0, 0, 4, 2))]
+['0231 1023', True, '###.\\n.#.#']
+"""
+
+PICTURES = """
+>>> from ditherdepths.pictures import InkPicture, Picture
+>>> picture = Picture(four, 4)
+>>> [picture.insert(0, 4, 6), picture.paint(1, 2, 9), picture.bands, picture.ink(), picture.ink_between(3, 1), picture.preview(("remove", 0, 1))]
+[None, None, [(1, 6), (2, 9), (1, 6)], 7, 1, 7]
+>>> [picture.log(), picture.undo(), picture.bands, picture.height]
+[[('insert', 0, 4, 6), ('paint', 1, 2, 9)], None, [(4, 6)], 4]
+"""
+
+CONSOLE = """
+>>> from ditherdepths.console import Console
+>>> console = Console()
+>>> [console.execute(command) for command in ["picture 4 0231 0231", "insert 0 4 6", "paint 1 2 9", "show", "ink", "undo", "ink", "dots 9 0 0 4 4", "across 12", "alone 6"]]
+['ok', 'ok', 'ok', '1x6 2x9 1x6', '7', 'ok', '6', '9', 'none', '6']
+"""
+
 
 def run_session(text):
     """What a run of the examples reports, and the names that it leaves."""
@@ -76,9 +131,14 @@ def run_session(text):
 
 class ExamplesTest(unittest.TestCase):
     def test_the_session(self):
-        result, report, _ = run_session(OVERVIEW + SCREENS + DOTS + RANKS + SQUARES + RUNS + PATTERNS)
+        first = OVERVIEW + SCREENS + DOTS + RANKS + SQUARES + RUNS + PATTERNS
+        result, report, names = run_session(first + EDGES + INKS + ALIKE + TOLD + TEXTS + PICTURES + CONSOLE)
         self.assertEqual(result.failed, 0, report)
-        self.assertEqual(result.attempted, 22)
+        self.assertEqual(result.attempted, 44)
+        # The last example of the pictures raises.
+        with self.assertRaises(OverInk) as caught:
+            names["InkPicture"](names["four"], 4, 5).insert(0, 4, 6)
+        self.assertEqual(caught.exception.count, 6)
 
     def test_the_table_of_point_6(self):
         _, _, names = run_session(OVERVIEW)

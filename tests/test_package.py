@@ -31,6 +31,23 @@ FUNCTIONS = {
         "matches": ["plates", "conditions", "x", "y"], "match_count": ["plates", "conditions", "window"],
         "match_share": ["plates", "conditions"],
     },
+    "edges.py": {
+        "edges": ["screen", "shade"], "lone_dots": ["screen", "shade"], "islands_less_holes": ["screen", "shade"],
+    },
+    "inks.py": {"ink_counts": ["plates", "window"], "covered": ["plates", "window"]},
+    "alike.py": {
+        "same_dots": ["screen", "shade", "second", "second_shade"],
+        "unlike_count": ["screen", "shade", "second", "second_shade", "window"],
+        "first_unlike": ["screen", "shade", "second", "second_shade", "window"],
+        "moved": ["screen", "x", "y"], "shift_between": ["screen", "second"],
+    },
+    "told.py": {
+        "shades_for": ["screen", "seen"], "deciding": ["screen", "seen"], "first_contradiction": ["screen", "seen"],
+        "shades_counted": ["screen", "counted"],
+    },
+    "texts.py": {
+        "show_screen": ["screen"], "read_screen": ["text"], "show_dots": ["screen", "shade", "window"],
+    },
 }
 METHODS = {
     "screens.py": {
@@ -39,8 +56,21 @@ METHODS = {
             "shades": ["self"], "threshold": ["self", "x", "y"], "place": ["self", "number"], "__eq__": None,
         },
     },
+    "pictures.py": {
+        "Picture": {
+            "__init__": ["self", "screen", "width"], "screen": ["self"], "width": ["self"], "bands": ["self"],
+            "height": ["self"], "__eq__": None, "insert": ["self", "row", "number", "shade"],
+            "remove": ["self", "row", "number"], "paint": ["self", "row", "number", "shade"], "undo": ["self"],
+            "log": ["self"], "ink": ["self"], "ink_between": ["self", "row", "number"], "preview": ["self"],
+        },
+        "InkPicture": {"__init__": ["self", "screen", "width", "limit"], "limit": ["self"]},
+    },
+    "console.py": {"Console": {"__init__": ["self"], "execute": ["self", "command"]}},
 }
-PROPERTIES = {"screens.py": {"Screen": ["levels", "depth", "period", "shades"]}}
+PROPERTIES = {
+    "screens.py": {"Screen": ["levels", "depth", "period", "shades"]},
+    "pictures.py": {"Picture": ["screen", "width", "bands", "height"], "InkPicture": ["limit"]},
+}
 
 
 def tree_of(path):
